@@ -1,0 +1,1 @@
+"""A machine for exact fractions: code as text, checked ahead, run by steps."""
