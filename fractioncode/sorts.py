@@ -4,7 +4,7 @@
 class Number:
     """The fraction top / bottom with bottom above 0, maybe not in lowest terms, and its weight.
 
-    Lowest terms are sought only where a fraction is shown: the weight bounds how long top and bottom get,
+    Lowest terms are sought only where a fraction is read or shown: the weight bounds how long top and bottom get,
     and dividing them down at each step would take far longer than the steps themselves.
     """
 
