@@ -5,15 +5,30 @@ from fractioncode.sorts import Number
 
 MOST_DIGITS = 100
 MOST_WEIGHT = 200
+# Two numbers below 10^1000 take fewer divisions than this until their common divisor is found, and as many
+# if both are multiplied by the same one: what takes more is too large in lowest terms too.
+MOST_DIVISIONS = 5000
+
+
+class TooLarge(Exception):
+    """What is to be shown is too large for it."""
+
+
+def shown_bound():
+    """10^1000: no fraction is shown whose numerator or denominator isn't below it."""
+    return (10 ** 50) ** 20
 
 
 def common_divisor(a, b):
-    """The greatest whole number that divides both a and b."""
-    while b != 0:
+    """The greatest whole number that divides both a and b, if their fraction isn't too large to be shown."""
+    a = abs(a)
+    for division in range(MOST_DIVISIONS):
+        if b == 0:
+            return a
         rest = a % b
         a = b
         b = rest
-    return abs(a)
+    raise TooLarge()
 
 
 def are_digits(text):
@@ -36,10 +51,12 @@ def read_fraction(text, weight):
 
 
 def fraction_text(number):
-    """The text of a number's fraction in lowest terms."""
+    """The text of a number's fraction in lowest terms, if these aren't too large to be shown."""
     divisor = common_divisor(number.top, number.bottom)
     top = number.top // divisor
     bottom = number.bottom // divisor
+    if max(abs(top), bottom) >= shown_bound():
+        raise TooLarge()
     return str(top) if bottom == 1 else f"{top}/{bottom}"
 
 

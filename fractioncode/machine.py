@@ -1,10 +1,12 @@
 """The machine: calls on one object, which holds code or none and a run or none."""
 
 from fractioncode.checking import block_heights, code_fault
+from fractioncode.exact import TooLarge
 from fractioncode.inputs import NoInputs, read_inputs
 from fractioncode.reading import WrongAt, read_code
-from fractioncode.running import Run, WAS_REFUSED, do_steps
+from fractioncode.running import ENDED, Run, WAS_REFUSED, do_all_steps, do_steps, frames_of, go_back
 from fractioncode.showing import code_text
+from fractioncode.telling import frame_numbers, frame_text, value_text
 from fractioncode.texts import row_of, text_of
 
 MOST_BUDGET = 1000
@@ -13,8 +15,11 @@ OUT_OF_RANGE = -1
 NOT_THERE = -2
 NO_RUN = -3
 NO_CODE = -4
+TOO_FEW_STEPS = -5
+TOO_LARGE_TO_SHOW = -6
 NO_INPUTS_TEXT = -7
 OTHER_COUNT = -8
+NOT_ENDED = -9
 
 
 class Held:
@@ -115,6 +120,13 @@ def begin(held, calls):
     return [0]
 
 
+def standing(going, steps):
+    """How a run stands, with how many steps are told; once it was refused, with its refusal too."""
+    if going.outcome == WAS_REFUSED:
+        return [going.outcome, steps, going.refusal]
+    return [going.outcome, steps]
+
+
 def step(held, calls):
     """step: n."""
     n = calls.take_number()
@@ -123,13 +135,78 @@ def step(held, calls):
     if not 0 <= n <= MOST_STEPS:
         return [OUT_OF_RANGE]
     done = do_steps(held.run, n)
-    if held.run.outcome == WAS_REFUSED:
-        return [held.run.outcome, done, held.run.refusal]
-    return [held.run.outcome, done]
+    return standing(held.run, done)
+
+
+def run(held, calls):
+    """run."""
+    if held.run is None:
+        return [NO_RUN]
+    do_all_steps(held.run)
+    return standing(held.run, held.run.done)
+
+
+def back(held, calls):
+    """back: n."""
+    n = calls.take_number()
+    if held.run is None:
+        return [NO_RUN]
+    if n < 0:
+        return [OUT_OF_RANGE]
+    if n > held.run.done:
+        return [TOO_FEW_STEPS]
+    go_back(held.run, n)
+    return [held.run.done]
+
+
+def answer(held, calls):
+    """answer."""
+    if held.run is None:
+        return [NO_RUN]
+    if held.run.outcome != ENDED:
+        return [NOT_ENDED]
+    try:
+        text = value_text(held.run.result)
+    except TooLarge:
+        return [TOO_LARGE_TO_SHOW]
+    return [0] + row_of(text)
+
+
+def frames(held, calls):
+    """frames."""
+    if held.run is None:
+        return [NO_RUN]
+    found = frames_of(held.run)
+    numbers = [len(found)]
+    for frame in found:
+        numbers.extend(frame_numbers(frame))
+    return numbers
+
+
+def look(held, calls):
+    """look: frame."""
+    number = calls.take_number()
+    if held.run is None:
+        return [NO_RUN]
+    found = frames_of(held.run)
+    if not 0 <= number < len(found) or found[number].folds:
+        return [NOT_THERE]
+    try:
+        text = frame_text(found[number])
+    except TooLarge:
+        return [TOO_LARGE_TO_SHOW]
+    return [0] + row_of(text)
+
+
+def count(held, calls):
+    """count."""
+    if held.run is None:
+        return [NO_RUN]
+    return [held.run.done, held.run.left]
 
 
 # By the calls' numbers.
-CALLS = (load, check, show, heights, begin, step)
+CALLS = (load, check, show, heights, begin, step, run, back, answer, frames, look, count)
 
 
 def answers(calls):
@@ -139,7 +216,7 @@ def answers(calls):
     numbers = []
     while not going.are_over():
         number = going.take_number()
-        answer = CALLS[number](held, going)
-        numbers.append(len(answer))
-        numbers.extend(answer)
+        answered = CALLS[number](held, going)
+        numbers.append(len(answered))
+        numbers.extend(answered)
     return numbers

@@ -5,6 +5,8 @@ from fractioncode.giving import given, only_gives
 from fractioncode.refusals import Broken, NoCallLeft, Refused, TooDeep, WrongSort
 
 MOST_DEPTH = 160
+# How many steps lie between the states of a run that are kept to go back to.
+BETWEEN_MARKS = 64
 GOES_ON = 0
 ENDED = 1
 WAS_REFUSED = 2
@@ -47,7 +49,11 @@ class FoldFrame:
 
 
 class Run:
-    """A run: its blocks, its topmost frame (None once it has ended), calls left, steps done, how it stands."""
+    """A run: its blocks, its topmost frame (None once it has ended), calls left, steps done, how it stands.
+
+    marks are the topmost frame and the calls left as they were ahead of each step whose number (from 0)
+    is a multiple of BETWEEN_MARKS: keeping all states would take too much room.
+    """
 
     def __init__(self, blocks, budget, values):
         self.blocks = blocks
@@ -57,6 +63,7 @@ class Run:
         self.outcome = GOES_ON
         self.refusal = 0
         self.result = None
+        self.marks = []
 
 
 def moved(frame, at, row, places):
@@ -217,6 +224,8 @@ def step_fold(run, frame):
 
 def do_step(run):
     """One step of a run that goes on."""
+    if run.done % BETWEEN_MARKS == 0:
+        run.marks.append((run.topmost, run.left))
     run.done += 1
     try:
         if run.topmost.folds:
@@ -234,3 +243,36 @@ def do_steps(run, most):
     while run.outcome == GOES_ON and run.done - before < most:
         do_step(run)
     return run.done - before
+
+
+def do_all_steps(run):
+    """Steps until the run's end."""
+    while run.outcome == GOES_ON:
+        do_step(run)
+
+
+def go_back(run, n):
+    """Make the run as it was n steps ago, by way of the last mark before that; n isn't above the steps done."""
+    if n == 0:
+        return
+    wanted = run.done - n
+    number = wanted // BETWEEN_MARKS
+    mark = run.marks[number]
+    run.marks = run.marks[:number]
+    run.topmost = mark[0]
+    run.left = mark[1]
+    run.done = number * BETWEEN_MARKS
+    run.outcome = GOES_ON
+    run.refusal = 0
+    run.result = None
+    do_steps(run, wanted - run.done)
+
+
+def frames_of(run):
+    """The list of the run's frames, from the undermost one."""
+    frames = []
+    frame = run.topmost
+    while frame is not None:
+        frames.append(frame)
+        frame = frame.below
+    return list(reversed(frames))

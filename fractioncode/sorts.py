@@ -70,3 +70,12 @@ def chain_of(values):
     for value in reversed(values):
         chain = longer_chain(value, chain)
     return chain
+
+
+def chain_values(chain):
+    """The values of a list as a Python list."""
+    values = []
+    while chain.size > 0:
+        values.append(chain.first)
+        chain = chain.others
+    return values

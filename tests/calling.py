@@ -36,6 +36,30 @@ def step(n):
     return [5, n]
 
 
+def run():
+    return [6]
+
+
+def back(n):
+    return [7, n]
+
+
+def answer():
+    return [8]
+
+
+def frames():
+    return [9]
+
+
+def look(frame):
+    return [10, frame]
+
+
+def count():
+    return [11]
+
+
 def apart(numbers):
     """The answers, one list for each call."""
     rows = []
@@ -53,10 +77,29 @@ def ask(*calls):
     return apart(answers(handed))
 
 
-def text(answer):
+def text(answered):
     """The text behind an answer's 0."""
-    assert answer[0] == 0, answer
-    return bytes(answer[1:]).decode("latin-1")
+    assert answered[0] == 0, answered
+    return bytes(answered[1:]).decode("latin-1")
+
+
+def text_or_refusal(answered):
+    """The text behind an answer's 0, or the refusal alone."""
+    return text(answered) if answered[0] == 0 else answered
+
+
+def asked(code, inputs, *calls, budget=1000, checked=0):
+    """What the calls answer on a run of the code that has just begun."""
+    rows = ask(load(checked, code), begin(budget, inputs), *calls)
+    assert rows[:2] == [[0], [0]], rows[:2]
+    return rows[2:]
+
+
+def with_ended(code, inputs=""):
+    """What answer tells, as a text or a refusal, once a run of the code has ended."""
+    ran_out, answered = asked(code, inputs, run(), answer())
+    assert ran_out[0] == 1, ran_out
+    return text_or_refusal(answered)
 
 
 def ran(code, inputs="", budget=1000, checked=0):
@@ -71,3 +114,17 @@ def last_refusal(code, inputs="", budget=1000):
     stepped = ran(code, inputs, budget)
     assert stepped[0] in (1, 2), stepped
     return stepped[2] if stepped[0] == 2 else 0
+
+
+def list_text(length):
+    """A list of numbers as it's shown, with so many bytes."""
+    digits = length - 2
+    numbers = []
+    while digits > 150:
+        numbers.append("7" * 100)
+        digits -= 102
+    numbers.append("8" * (digits // 2 - 1))
+    numbers.append("9" * (digits - 2 - len(numbers[-1])))
+    shown = "[" + ", ".join(numbers) + "]"
+    assert len(shown) == length
+    return shown

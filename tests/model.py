@@ -136,6 +136,38 @@ def shown(value):
     return "[" + inside + "]" if sort == "list" else "(" + inside + ")"
 
 
+def plain(value):
+    """A value as it's shown."""
+    sort = value[0]
+    if sort == "number":
+        return str(value[1])
+    if sort == "function":
+        return "fn"
+    if sort == "truth":
+        return str(value[1]).lower()
+    inside = ", ".join(map(plain, value[1]))
+    return "[" + inside + "]" if sort == "list" else "(" + inside + ")"
+
+
+def numbers_in(value):
+    """The fractions among a value's parts."""
+    if value[0] == "number":
+        return [value[1]]
+    return sum(map(numbers_in, value[1]), []) if value[0] in ("list", "pair") else []
+
+
+def parts(value):
+    return 1 + sum(map(parts, value[1])) if value[0] in ("list", "pair") else 1
+
+
+def told_or_not(values, shown):
+    """[-6] or 0 and the text."""
+    large = [q for value in values for q in numbers_in(value) if max(abs(q.numerator), q.denominator) >= 10 ** 1000]
+    if sum(map(parts, values)) > 2000 or large or len(shown()) > 8000:
+        return [-6]
+    return [0] + list(shown().encode())
+
+
 def value_text(text, at, depth):
     """A value and the place behind it; blanks before both are passed over."""
     def over(place):
@@ -201,8 +233,10 @@ class Run:
         self.frames = [{"block": 0, "next": 0, "locals": list(values), "row": [], "depth": 0}]
         self.outcome = [0]
         self.value = None
+        self.done = 0
 
     def step(self):
+        self.done += 1
         kept = [dict(frame, **{name: list(frame[name]) for name in ("locals", "row", "coming", "hand") if name in frame})
                 for frame in self.frames[-2:]]
         left = self.left
@@ -408,7 +442,8 @@ class Object:
             return [-7]
         if len(values) != self.blocks[0][0]:
             return [-8]
-        self.run = Run(self.blocks, budget, values)
+        self.anew = lambda: Run(self.blocks, budget, values)
+        self.run = self.anew()
         return [0]
 
     def step(self, n):
@@ -421,3 +456,56 @@ class Object:
             self.run.step()
             done += 1
         return self.run.outcome[:1] + [done] + self.run.outcome[1:]
+
+    def go(self):
+        """run."""
+        if self.run is None:
+            return [-3]
+        while self.run.outcome == [0]:
+            self.run.step()
+        return self.run.outcome[:1] + [self.run.done] + self.run.outcome[1:]
+
+    def back(self, n):
+        """A new run is stepped as far as the old one was n steps ago."""
+        if self.run is None:
+            return [-3]
+        if n < 0:
+            return [-1]
+        if n > self.run.done:
+            return [-5]
+        wanted = self.run.done - n
+        self.run = self.anew()
+        while self.run.done < wanted:
+            self.run.step()
+        return [wanted]
+
+    def answer(self):
+        if self.run is None:
+            return [-3]
+        if self.run.outcome != [1]:
+            return [-9]
+        return told_or_not([self.run.value], lambda: plain(self.run.value))
+
+    def frames(self):
+        if self.run is None:
+            return [-3]
+        rows = [len(self.run.frames)]
+        for frame in self.run.frames:
+            if "f" in frame:
+                rows += [1, len(frame["coming"]), frame["state"], frame["level"], frame["depth"], 0]
+            else:
+                rows += [0, frame["block"], frame["next"], len(frame["row"]), len(frame["locals"]), frame["depth"]]
+        return rows
+
+    def look(self, number):
+        if self.run is None:
+            return [-3]
+        if number not in range(len(self.run.frames)) or "f" in self.run.frames[number]:
+            return [-2]
+        row, own = self.run.frames[number]["row"], self.run.frames[number]["locals"]
+        return told_or_not(row + own, lambda: ", ".join(map(plain, row)) + "|" + ", ".join(map(plain, own)))
+
+    def count(self):
+        if self.run is None:
+            return [-3]
+        return [self.run.done, self.run.left]

@@ -1,9 +1,12 @@
-"""Whole roots and common divisors, held against Python's own."""
+"""Whole roots, common divisors and lowest terms, held against Python's own."""
 
 import math
+import random
 import unittest
+from fractions import Fraction
 
-from fractioncode.exact import common_divisor, whole_root
+from fractioncode.exact import TooLarge, common_divisor, fraction_text, whole_root
+from fractioncode.sorts import Number
 
 
 class ExactTest(unittest.TestCase):
@@ -27,6 +30,20 @@ class ExactTest(unittest.TestCase):
         for a in range(-30, 31):
             for b in range(1, 31):
                 self.assertEqual(common_divisor(a, b), math.gcd(a, b))
+
+    def test_fraction_text(self):
+        chance = random.Random(5)
+        for round in range(300):
+            digits = chance.choice((5, 300, 990, 999, 1000, 1001, 1005, 3000))
+            factor = chance.randrange(1, 10 ** chance.choice((1, 20, 2000, 15000)))
+            top = chance.randrange(-10 ** digits, 10 ** digits)
+            bottom = chance.randrange(1, 10 ** min(digits, chance.choice((1, 700, 3000))))
+            fraction = Fraction(top, bottom)
+            number = Number(top * factor, bottom * factor, 1)
+            if max(abs(fraction.numerator), fraction.denominator) < 10 ** 1000:
+                self.assertEqual(fraction_text(number), str(fraction))
+            else:
+                self.assertRaises(TooLarge, fraction_text, number)
 
 
 if __name__ == "__main__":

@@ -7,7 +7,7 @@ from fractioncode.exact import fraction_text
 from fractioncode.inputs import read_inputs
 from fractioncode.reading import read_code
 from fractioncode.running import Run, do_steps
-from tests import model
+from tests import calling, model
 from tests.calling import ask, begin, check, heights, load, show, step
 
 WORDS = model.PLAIN + model.SMALL + ["num", "pow"]
@@ -141,6 +141,36 @@ def told(run):
     return [str(run.left), str(outcome)] + list(reversed(lines)) + ended
 
 
+def made_line(chance, codes, inputs):
+    """Calls with what they are given, as names and values; most are about a run."""
+    names = ("step", "step", "step", "go", "back", "back", "answer", "answer", "frames", "look", "look", "count")
+    line = [("load", 0, codes[0]), ("begin", chance.choice((1, 5, 60)), inputs[0])]
+    for _ in range(25):
+        name = chance.choice(names)
+        which = chance.randrange(2)
+        if chance.random() < 0.1:
+            line.append(("begin", chance.choice((0, 1, 5, 60)), inputs[which]))
+        elif chance.random() < 0.04:
+            line.append(("load", chance.randrange(2), codes[which]))
+        elif name in ("step", "back"):
+            line.append((name, chance.choice((-1, 0, 1, 1, 2, 5, 10, 30, 70, 200))))
+        elif name == "look":
+            line.append((name, chance.choice((-1, 0, 0, 0, 1, 1, 2, 3, 4))))
+        else:
+            line.append((name,))
+    return line
+
+
+def told_by_program(line):
+    calls = [getattr(calling, "run" if name == "go" else name)(*given) for name, *given in line]
+    return ask(*calls)
+
+
+def told_by_model(line):
+    thing = model.Object()
+    return [getattr(thing, name)(*given) for name, *given in line]
+
+
 class ModelTest(unittest.TestCase):
     def test_calls(self):
         outcomes = {}
@@ -196,6 +226,22 @@ class ModelTest(unittest.TestCase):
                 for budget in (0, 1, 2, 3, 4, 100):
                     code = (outer + inner).replace("{0}", level)
                     self.assertNotEqual(self.stepped(code, inputs, budget, 1000), (0,))
+
+    def test_lines(self):
+        outcomes = {}
+        for seed in range(2500):
+            chance = random.Random(seed)
+            made = [made_code(chance) for _ in range(2)]
+            inputs = [", ".join([made_value(chance, 0) for _ in range(count)]) for code, count in made]
+            line = made_line(chance, [code for code, count in made], inputs)
+            rows = told_by_program(line)
+            self.assertEqual(rows, told_by_model(line), (seed, line))
+            for call, row in zip(line, rows):
+                outcomes[(call[0], min(row[0], 1))] = outcomes.get((call[0], min(row[0], 1)), 0) + 1
+        for wanted in (("go", 1), ("go", -3), ("back", 0), ("back", 1), ("back", -1), ("back", -3), ("back", -5),
+                       ("answer", 0), ("answer", -3), ("answer", -9), ("frames", 0), ("frames", 1), ("look", 0),
+                       ("look", -2), ("count", 0), ("count", 1)):
+            self.assertGreater(outcomes[wanted], 20, outcomes)
 
     def test_inputs_texts(self):
         for seed in range(4000):
