@@ -20,8 +20,7 @@ def shown_bound():
 
 
 def common_divisor(a, b):
-    """The greatest whole number that divides both a and b, if their fraction isn't too large to be shown."""
-    a = abs(a)
+    """The greatest whole number that divides both a and b, if a / b isn't too large to be shown; b is above 0."""
     for division in range(MOST_DIVISIONS):
         if b == 0:
             return a

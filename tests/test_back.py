@@ -146,6 +146,12 @@ class LongTest(unittest.TestCase):
         self.assertEqual(rows[-2:], asked(GROWING, "", step(done), frames(), look(3))[1:])
         self.assertEqual(rows[2:-2:2], [[0, 150]] * 30)
 
+    def test_further_forth_each_time(self):
+        calls = [call for time in range(20) for call in (step(300), back(170))]
+        for n in (0, 1, 63, 64, 65, 100, 128, 500, 1000, 2000, 2770):
+            rows = asked(GROWING, "", *calls, step(170), back(n), frames(), look(3))
+            self.assertEqual(rows[-2:], asked(GROWING, "", step(20 * 130 + 170 - n), frames(), look(3))[1:], n)
+
     def test_what_is_looked_at(self):
         rows = asked(GROWING, "", step(70), look(1), back(60), look(1), step(60), look(1))
         self.assertEqual(text(rows[3]), "|fn, [], [true]")
